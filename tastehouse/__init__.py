@@ -1,0 +1,1 @@
+"""Tastehouse: tastings, and the pots that must be ready for them."""

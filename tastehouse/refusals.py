@@ -1,0 +1,31 @@
+"""What is handed in wrongly is refused, each with its own class ([5]).
+
+The texts never show what was handed in: it may be of whatever kind and size.
+"""
+
+from tastehouse.errors import NoNumber, NoRecipe, NoSpot, NoTasting
+from tastehouse.houses import is_spot, is_whole
+
+
+def refuse_no_spot(house, thing):
+    """Refuses what is no spot of the house."""
+    if not is_spot(house, thing):
+        raise NoSpot("this is no spot of the house")
+
+
+def refuse_no_recipe(house, thing):
+    """Refuses what is no number of a recipe of the house."""
+    if not is_whole(thing, 0, len(house[1]) - 1):
+        raise NoRecipe("this is no number of a recipe of the house")
+
+
+def refuse_no_tasting(house, thing):
+    """Refuses what is no number of a tasting of the house."""
+    if not is_whole(thing, 0, len(house[2]) - 1):
+        raise NoTasting("this is no number of a tasting of the house")
+
+
+def refuse_no_number(thing, least, most):
+    """Refuses what is no whole number from least to most."""
+    if not is_whole(thing, least, most):
+        raise NoNumber(f"this is no whole number from {least} to {most}")

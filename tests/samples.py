@@ -1,0 +1,46 @@
+"""Houses and things that several tests hand in."""
+
+# Names told at a table, its evening and the house; a ring that is found, a ring that is not.
+TABLES = (2, 1, 3)
+RECIPES = (
+    (0, (), 3, 1, ()),
+    (0, (0,), 2, 2, (0, 1)),
+    (0, (0, 1), 1, 3, (0, 2)),
+    (1, (), 3, 1, (2,)),
+    (2, (), 3, 1, (1,)),
+    (3, (2, 2), 0, 1, (4, 0)),
+    (4, (2, 2), 0, 1, (3, 5)),
+    (7, (1, 0), 0, 2, (7, 6)),
+)
+TASTINGS = (
+    ((0, 1), (0, 6), ("hot", "sweet")),
+    ((0, 0), (), ()),
+    ((1, 0), (5, 0), ("a", "ab", "b", "zzzzzzzz")),
+)
+HOUSE = (TABLES, RECIPES, TASTINGS)
+
+SMALLEST = ((1,), (), ())
+
+FULLEST = (
+    (3, 3, 3),
+    tuple((name, (2, 2), 3, 3, (5, 6, 7)) for name in range(8)),
+    tuple(((2, 2), (7, 0, 3), ("abcdefgh", "b", "c", "zzzzzzzz")) for number in range(6)),
+)
+
+
+def nested(kind, depth):
+    """An empty thing of a kind within another one, and so on."""
+    thing = kind()
+    for level in range(depth - 1):
+        thing = kind([thing]) if kind != dict else {"a": thing}
+    return thing
+
+
+# None of these is a house, a spot or a number of any kind.
+STRANGE = (
+    None, True, False, "", "0", "()", "house", "a" * 2000, -1, 10 ** 39, -(10 ** 39),
+    [], [0], [0, 0], [[]], {}, {0: 0}, {"spot": ()}, {(): ()},
+    ("0",), (None,), (True,), (False,), (0, False), (False, 0), (0, "0"), (0, None), (0, [0]), ([0], 0),
+    ((),), ((), ()), ((0,),), ((0, 0),), (-1,), (0, -1), (-1, 0), (10 ** 39,), (0, 10 ** 39), (0, 0, 0), ({},),
+    nested(list, 30), nested(tuple, 30), nested(dict, 30), tuple([0] * 8999), [0] * 8999,
+)

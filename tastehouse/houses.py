@@ -25,10 +25,20 @@ def is_spot(house, thing):
     return is_spot_of(house[0], thing)
 
 
+def is_number(thing):
+    """Whether a thing of whatever kind is a whole number."""
+    # Python counts True and False as ints, a house does not.
+    return isinstance(thing, int) and not isinstance(thing, bool)
+
+
+def is_count(thing):
+    """Whether a thing of whatever kind is a whole number from 0 on."""
+    return is_number(thing) and thing >= 0
+
+
 def is_whole(thing, least, most):
     """Whether a thing of whatever kind is a whole number from least to most."""
-    # Python counts True and False as ints, a house does not.
-    return isinstance(thing, int) and not isinstance(thing, bool) and least <= thing <= most
+    return is_number(thing) and least <= thing <= most
 
 
 def is_name(thing):

@@ -4,7 +4,7 @@ The texts never show what was handed in: it may be of whatever kind and size.
 """
 
 from tastehouse.errors import NoNumber, NoRecipe, NoSpot, NoTasting
-from tastehouse.houses import is_spot, is_whole
+from tastehouse.houses import is_count, is_spot, is_whole
 
 
 def refuse_no_spot(house, thing):
@@ -29,3 +29,9 @@ def refuse_no_number(thing, least, most):
     """Refuses what is no whole number from least to most."""
     if not is_whole(thing, least, most):
         raise NoNumber(f"this is no whole number from {least} to {most}")
+
+
+def refuse_no_count(thing):
+    """Refuses what is no whole number from 0 on."""
+    if not is_count(thing):
+        raise NoNumber("this is no whole number from 0 on")

@@ -44,3 +44,42 @@ STRANGE = (
     ((),), ((), ()), ((0,),), ((0, 0),), (-1,), (0, -1), (-1, 0), (10 ** 39,), (0, 10 ** 39), (0, 0, 0), ({},),
     nested(list, 30), nested(tuple, 30), nested(dict, 30), tuple([0] * 8999), [0] * 8999,
 )
+
+
+def at_house(*needs, keeps=None, sorts=None):
+    """Recipes told at the house, named by their numbers, with these needs."""
+    return tuple((number, (), keeps[number] if keeps else 3, sorts[number] if sorts else 1, need)
+                 for number, need in enumerate(needs))
+
+
+# One fault each: a recipe's lack, a tasting's lack, a short, a ring; then some of them together.
+LACK = ((1,), at_house((), (0, 7)), (((0, 0), (1,), ()),))
+TASTING_LACK = ((1,), at_house((), (0,)), (((0, 0), (1, 6), ()),))
+SHORT = ((1,), at_house((), (0,), keeps=(2, 3)), (((0, 0), (1,), ()),))
+RING = ((1,), at_house((1,), (0,)), (((0, 0), (1,), ()),))
+LACK_SHORT = ((1,), at_house((), (0, 7), keeps=(2, 3)), (((0, 0), (1,), ()),))
+LACK_RING = ((1,), at_house((1,), (0, 7)), (((0, 0), (1,), ()),))
+SHORT_RING = ((1,), at_house((1,), (0,), keeps=(0, 1)), (((0, 0), (1,), ()),))
+ALL_FAULTS = ((1,), at_house((1,), (0,), keeps=(0, 1)), (((0, 0), (1, 5), ()),))
+UNSOUND = (LACK, TASTING_LACK, SHORT, RING, LACK_SHORT, LACK_RING, SHORT_RING, ALL_FAULTS, HOUSE, FULLEST)
+
+# A recipe that is wanted by two ways, names told anew at an evening and a table, each keep, a tasting without needs.
+SOUND = (
+    (2, 1),
+    (
+        (0, (), 3, 2, ()),
+        (1, (), 2, 1, (0,)),
+        (2, (), 1, 3, (0,)),
+        (3, (), 0, 2, (2, 1)),
+        (0, (0, 1), 1, 1, (0,)),
+        (5, (0,), 2, 2, (6, 0)),
+        (6, (), 3, 1, ()),
+        (7, (1,), 0, 3, ()),
+    ),
+    (
+        ((0, 0), (3,), ("hot",)),
+        ((0, 1), (0, 5), ("hot", "sweet")),
+        ((1, 0), (), ()),
+        ((1, 0), (7, 1, 0), ("cold",)),
+    ),
+)

@@ -1,10 +1,10 @@
 """[4], [5], [6], [12], [13]: where names are found, and what nobody finds."""
 
 import copy
-import itertools
 import random
 import unittest
 
+from plain import made_house, plain_all, plain_needs, plain_straight, plain_unfound, spots_of
 from samples import FULLEST, HOUSE, SMALLEST, STRANGE
 from tastehouse.errors import NoNumber, NoRecipe, NoSpot, NoTasting
 from tastehouse.finding import all_at, found_at, straight_of, tasting_needs, unfound
@@ -15,66 +15,6 @@ LAYERS = (
     ((5, (), 3, 1, ()), (5, (0, 1), 0, 1, ()), (6, (0, 1), 0, 1, ()), (5, (0,), 2, 1, ()), (4, (1, 0), 0, 1, ())),
     (),
 )
-
-
-def spots_of(house):
-    evenings = range(len(house[0]))
-    return [(), *[(a,) for a in evenings], *[(a, b) for a in evenings for b in range(house[0][a])]]
-
-
-def wide_of(spot):
-    """The spots that a spot is within, told by the words of [6] one by one."""
-    if len(spot) == 2:
-        return [spot, (spot[0],), ()]
-    return [spot, ()] if len(spot) == 1 else [()]
-
-
-def plain_all(house, spot, name):
-    places = {(recipe[0], recipe[1]): number for number, recipe in enumerate(house[1])}
-    return [places[name, wide] for wide in wide_of(spot) if (name, wide) in places]
-
-
-def plain_straight(house, number):
-    name, spot, keep, sorts, needs = house[1][number]
-    told = []
-    for need in needs:
-        places = {(recipe[0], recipe[1]): other for other, recipe in enumerate(house[1])}
-        wides = wide_of(spot)[1:] if need == name else wide_of(spot)
-        told.append(next((places[need, wide] for wide in wides if (need, wide) in places), None))
-    return tuple(told)
-
-
-def plain_needs(house, number):
-    spot, needs, words = house[2][number]
-    return tuple((plain_all(house, spot, need) + [None])[0] for need in needs)
-
-
-def plain_unfound(house):
-    """Grown round by round until nothing is added."""
-    found = {number for tasting in range(len(house[2])) for number in plain_needs(house, tasting)} - {None}
-    while True:
-        more = {other for number in found for other in plain_straight(house, number)} - {None}
-        if more <= found:
-            return [number for number in range(len(house[1])) if number not in found]
-        found |= more
-
-
-def made_house(chance):
-    """A house made by a chance that is the same in each run."""
-    tables = tuple(chance.randint(1, 3) for evening in range(chance.randint(1, 3)))
-    spots = spots_of((tables, (), ()))
-    names = range(chance.randint(1, 8))
-    places = list(itertools.product(names, spots))
-    chance.shuffle(places)
-
-    def needs():
-        return tuple(chance.sample(range(8), chance.randint(0, 3))) if chance.random() < 0.3 else \
-            tuple(chance.sample(names, min(len(names), chance.randint(0, 3))))
-    recipes = tuple((name, spot, chance.randint(0, 3), chance.randint(1, 3), needs())
-                    for name, spot in places[:chance.randint(0, 8)])
-    at = [spot for spot in spots if len(spot) == 2]
-    tastings = tuple((chance.choice(at), needs(), ()) for number in range(chance.randint(0, 3)))
-    return tables, recipes, tastings
 
 
 class FoundTest(unittest.TestCase):

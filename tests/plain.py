@@ -1,0 +1,147 @@
+"""The words of the document told once more, as plainly as can be, and houses made to compare with them."""
+
+import itertools
+
+
+def spots_of(house):
+    evenings = range(len(house[0]))
+    return [(), *[(a,) for a in evenings], *[(a, b) for a in evenings for b in range(house[0][a])]]
+
+
+def wide_of(spot):
+    """The spots that a spot is within, told by the words of [6] one by one."""
+    if len(spot) == 2:
+        return [spot, (spot[0],), ()]
+    return [spot, ()] if len(spot) == 1 else [()]
+
+
+def plain_all(house, spot, name):
+    places = {(recipe[0], recipe[1]): number for number, recipe in enumerate(house[1])}
+    return [places[name, wide] for wide in wide_of(spot) if (name, wide) in places]
+
+
+def plain_straight(house, number):
+    name, spot, keep, sorts, needs = house[1][number]
+    told = []
+    for need in needs:
+        places = {(recipe[0], recipe[1]): other for other, recipe in enumerate(house[1])}
+        wides = wide_of(spot)[1:] if need == name else wide_of(spot)
+        told.append(next((places[need, wide] for wide in wides if (need, wide) in places), None))
+    return tuple(told)
+
+
+def plain_needs(house, number):
+    spot, needs, words = house[2][number]
+    return tuple((plain_all(house, spot, need) + [None])[0] for need in needs)
+
+
+def plain_unfound(house):
+    """Grown round by round until nothing is added."""
+    found = {number for tasting in range(len(house[2])) for number in plain_needs(house, tasting)} - {None}
+    while True:
+        more = {other for number in found for other in plain_straight(house, number)} - {None}
+        if more <= found:
+            return [number for number in range(len(house[1])) if number not in found]
+        found |= more
+
+
+def made_house(chance, wide=0):
+    """A house made by a chance that is the same in each run; the greater wide is, the more is told at the house."""
+    tables = tuple(chance.randint(1, 3) for evening in range(chance.randint(1, 3)))
+    spots = spots_of((tables, (), ()))
+    names = range(chance.randint(1, 8))
+    places = list(itertools.product(names, spots))
+    chance.shuffle(places)
+    places.sort(key=lambda place: len(place[1]) if chance.random() < wide else 3)
+
+    def needs():
+        return tuple(chance.sample(range(8), chance.randint(0, 3))) if chance.random() < 0.3 else \
+            tuple(chance.sample(names, min(len(names), chance.randint(0, 3))))
+    recipes = tuple((name, spot, chance.randint(0, 3), chance.randint(1, 3), needs())
+                    for name, spot in places[:chance.randint(0, 8)])
+    at = [spot for spot in spots if len(spot) == 2]
+    tastings = tuple((chance.choice(at), needs(), ()) for number in range(chance.randint(0, 3)))
+    return tables, recipes, tastings
+
+
+def without_lacks_and_shorts(house):
+    """The house without the needs that are found nowhere, and with one keep; rings stay."""
+    tables, recipes, tastings = house
+    recipes = tuple((name, spot, 1, sorts, tuple(need for need, found in zip(needs, plain_straight(house, number))
+                                                 if found is not None))
+                    for number, (name, spot, keep, sorts, needs) in enumerate(recipes))
+    return tables, recipes, with_found_needs(house)
+
+
+def with_found_needs(house):
+    """The tastings of a house without the needs that are found nowhere."""
+    return tuple((spot, tuple(need for need in needs if plain_all(house, spot, need)), words)
+                 for spot, needs, words in house[2])
+
+
+def made_sound_house(chance):
+    """A sound house: of a made one, needs that are found nowhere or might close a ring, and long keeps, are let go."""
+    tables, recipes, tastings = made_house(chance, 0.6)
+    house = tables, recipes, tastings
+    ranks = list(range(len(recipes)))
+    chance.shuffle(ranks)
+    # Which recipe a need is found at hangs on names and spots alone, so it stays as needs are let go.
+    found = [dict(zip(recipe[4], plain_straight(house, number))) for number, recipe in enumerate(recipes)]
+    lower = [[need for need in recipe[4] if found[number][need] is not None and ranks[found[number][need]] < ranks[number]]
+             for number, recipe in enumerate(recipes)]
+    keeps = [recipe[2] for recipe in recipes]
+    for number in sorted(range(len(recipes)), key=lambda number: ranks[number]):
+        keeps[number] = min([keeps[number]] + [keeps[found[number][need]] for need in lower[number]])
+    recipes = tuple((recipe[0], recipe[1], keeps[number], recipe[3], tuple(lower[number]))
+                    for number, recipe in enumerate(recipes))
+    return tables, recipes, with_found_needs(house)
+
+
+def plain_lacks(house):
+    told = {("recipe", number, house[1][number][4][at]) for number in range(len(house[1]))
+            for at, found in enumerate(plain_straight(house, number)) if found is None}
+    told |= {("tasting", number, house[2][number][1][at]) for number in range(len(house[2]))
+             for at, found in enumerate(plain_needs(house, number)) if found is None}
+    return sorted(told)
+
+
+def plain_shorts(house):
+    return sorted((one, other) for one in range(len(house[1])) for other in range(len(house[1]))
+                  if other in plain_straight(house, one) and house[1][one][2] > house[1][other][2])
+
+
+def plain_ring(house):
+    """Every tuple of unlike recipes is looked at, the short ones first, those of like length as tuples compare."""
+    straight = [plain_straight(house, number) for number in range(len(house[1]))]
+    for many in range(1, len(straight) + 1):
+        for row in itertools.permutations(range(len(straight)), many):
+            if row[0] == min(row) and all(row[at] in straight[row[at - 1]] for at in range(many)):
+                return row
+    return None
+
+
+def plain_fault(house):
+    ring = plain_ring(house)
+    told = [("lack", lack) for lack in plain_lacks(house)] + [("short", short) for short in plain_shorts(house)]
+    return (told + [None if ring is None else ("ring", ring)])[0]
+
+
+def plain_wanted(house, recipes):
+    wanted = []
+
+    def put(number):
+        if number not in wanted:
+            for other in plain_straight(house, number):
+                put(other)
+            wanted.append(number)
+    for number in recipes:
+        put(number)
+    return tuple(wanted)
+
+
+def plain_turns(house):
+    """All turns of a sound house as tuples compare."""
+    turns = [(tasting, sorts) for tasting in range(len(house[2]))
+             for sorts in itertools.product(*[range(house[1][number][3])
+                                              for number in plain_wanted(house, plain_needs(house, tasting))])]
+    return sorted(turns)

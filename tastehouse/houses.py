@@ -58,6 +58,11 @@ def is_tuple_of(thing, least, most):
     return isinstance(thing, tuple) and least <= len(thing) <= most
 
 
+def is_rising(things):
+    """Whether each thing of a tuple, all of one kind, is greater than the one ahead."""
+    return all(ahead < behind for ahead, behind in zip(things, things[1:]))
+
+
 def are_tables(thing):
     """Whether a thing of whatever kind tells how many tables each evening has."""
     return is_tuple_of(thing, 1, MOST_EVENINGS) and all(is_whole(many, 1, MOST_TABLES) for many in thing)
@@ -86,7 +91,7 @@ def are_words(thing):
     """Whether a thing of whatever kind is a rising tuple of words."""
     if not is_tuple_of(thing, 0, MOST_WORDS) or not all(is_word(word) for word in thing):
         return False
-    return all(ahead < behind for ahead, behind in zip(thing, thing[1:]))
+    return is_rising(thing)
 
 
 def is_recipe(tables, thing):

@@ -1,6 +1,6 @@
 """Turns: the tastings in each choice of sorts, and orders of them, of sound houses ([41] to [43])."""
 
-from tastehouse.errors import NoTurn, NotThere, TooMany
+from tastehouse.errors import NoOrder, NoTurn, NotThere, TooMany
 from tastehouse.faults import refuse_not_sound
 from tastehouse.houses import is_tuple_of, is_whole
 from tastehouse.refusals import refuse_no_count, refuse_no_tasting
@@ -66,6 +66,19 @@ def refuse_no_turn(house, thing):
     """Refuses what is no turn of the house."""
     if not is_turn_of(house, thing):
         raise NoTurn("this is no turn of the house")
+
+
+def refuse_no_order(house, thing):
+    """Refuses what is no order of the house."""
+    if not is_order_of(house, thing):
+        raise NoOrder("this is no order of the house")
+
+
+def is_order_of(house, thing):
+    """Whether a thing of whatever kind is an order of a house that is looked at already."""
+    if not isinstance(thing, tuple) or not all(is_turn_of(house, turn) for turn in thing):
+        return False
+    return len(set(thing)) == len(thing)
 
 
 def is_turn_of(house, thing):

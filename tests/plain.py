@@ -145,3 +145,105 @@ def plain_turns(house):
              for sorts in itertools.product(*[range(house[1][number][3])
                                               for number in plain_wanted(house, plain_needs(house, tasting))])]
     return sorted(turns)
+
+
+def plain_place(house, tasting, keep):
+    evening, table = house[2][tasting][0]
+    return {0: (evening, table, tasting), 1: (evening, table), 2: (evening,), 3: ()}[keep]
+
+
+def plain_pots(house, turn):
+    tasting, sorts = turn
+    wanted = plain_wanted(house, plain_needs(house, tasting))
+    return tuple((number, plain_place(house, tasting, house[1][number][2]),
+                  tuple(sorts[wanted.index(other)] for other in plain_wanted(house, (number,))))
+                 for number in wanted)
+
+
+def plain_run(house, order, often, goes_well):
+    """The list, what came of each turn, and what stood as each was tasted; goes_well is asked of each deed."""
+    deeds, standing, came, stood, made_of = [], [], [], [], {}
+
+    def pour(pots):
+        for pot in [pot for pot in reversed(standing) if pot in pots]:
+            deeds.append(("pour" if goes_well("pour") else "spill", pot))
+            standing.remove(pot)
+
+    def cook_all(wanted):
+        for pot in wanted:
+            if pot not in standing:
+                if not goes_well("cook"):
+                    deeds.append(("burn", pot))
+                    return False
+                # Told by the pots that stand as it is cooked, not by recipes.
+                made_of[pot] = {other for other in standing if other[0] in plain_straight(house, pot[0])}
+                standing.append(pot)
+                deeds.append(("cook", pot))
+        return True
+
+    def clear_for(turn, wanted):
+        going = {pot for pot in standing if pot[1] != plain_place(house, turn[0], house[1][pot[0]][2])}
+        going |= {pot for pot in standing for other in wanted if pot[0] == other[0] and pot != other}
+        while any(made_of[pot] & going and pot not in going for pot in standing):
+            going |= {pot for pot in standing if made_of[pot] & going}
+        pour(going)
+
+    for turn in order:
+        stood.append(None)
+        if came.count("bad") + came.count("missed") >= often:
+            came.append("left")
+            continue
+        wanted = plain_pots(house, turn)
+        clear_for(turn, wanted)
+        if cook_all(wanted):
+            stood[-1] = tuple(standing)
+            came.append("good" if goes_well("taste") else "bad")
+            deeds.append(("taste" if came[-1] == "good" else "bad", turn))
+        else:
+            came.append("missed")
+            deeds.append(("miss", turn))
+        pour([pot for pot in standing if house[1][pot[0]][2] == 0])
+    pour(list(standing))
+    return deeds, tuple(came), tuple(stood)
+
+
+def by_mishaps(mishaps):
+    """A goes_well for plain_run: told by mishaps."""
+    counts = {"cook": 0, "pour": 0, "taste": 0}
+
+    def goes_well(what):
+        counts[what] += 1
+        return (what, counts[what] - 1) not in mishaps
+    return goes_well
+
+
+def every_run(house, order, often):
+    """For each way in which a run's deeds may go well or wrong its mishaps, list, what came of it, and what stood."""
+    told, open_ones = [], [()]
+    while open_ones:
+        ahead = open_ones.pop()
+        asked = []
+
+        def goes_well(what):
+            well = ahead[len(asked)] if len(asked) < len(ahead) else True
+            asked.append((what, well))
+            return well
+        run = plain_run(house, order, often, goes_well)
+        whats = [what for what, well in asked]
+        told.append((tuple(sorted((what, whats[:at].count(what)) for at, (what, well) in enumerate(asked) if not well)), *run))
+        wells = tuple(well for what, well in asked)
+        open_ones += [(*wells[:at], False) for at in range(len(ahead), len(wells))]
+    return told
+
+
+def made_order(chance, house, most):
+    """An order of some turns of a sound house, by chance."""
+    turns = plain_turns(house)
+    return tuple(chance.sample(turns, min(len(turns), chance.randint(0, most))))
+
+
+def made_mishaps(chance, most, far=40):
+    """Mishaps by chance, more of them early in the run."""
+    told = {(chance.choice(("cook", "pour", "taste")), chance.randint(0, chance.randint(0, far)))
+            for number in range(chance.randint(0, most))}
+    return tuple(sorted(told))

@@ -75,6 +75,43 @@ class LanguageTest(unittest.TestCase):
         for path, node in self.nodes(ast.arg):
             self.assertFalse(hasattr(builtins, node.arg), f"{path.name}:{node.lineno} {node.arg}")
 
+    def test_no_imports_in_a_ring(self):
+        straight = {path.stem: {row.module.split(".")[1] for row in tree.body if isinstance(row, ast.ImportFrom)}
+                    for path, tree in self.trees.items()}
+        while straight:
+            free = [name for name, others in straight.items() if not others & set(straight)]
+            self.assertTrue(free, straight)
+            for name in free:
+                del straight[name]
+
+    def test_no_local_name_of_an_import_or_a_class(self):
+        for path, tree in self.trees.items():
+            taken = {name.name for row in tree.body if isinstance(row, ast.ImportFrom) for name in row.names}
+            taken |= {row.name for row in tree.body if isinstance(row, ast.ClassDef)}
+            for node in ast.walk(tree):
+                local = node.arg if isinstance(node, ast.arg) else None
+                local = node.id if isinstance(node, ast.Name) and isinstance(node.ctx, ast.Store) else local
+                self.assertNotIn(local, taken, f"{path.name}:{getattr(node, 'lineno', 0)}")
+
+    def test_no_method_is_an_attribute(self):
+        methods = {row.name for path, node in self.nodes(ast.ClassDef) for row in node.body if isinstance(row, ast.FunctionDef)}
+        stored = {node.attr for path, node in self.nodes(ast.Attribute) if isinstance(node.ctx, ast.Store)}
+        self.assertEqual(methods & stored, set())
+        for kind in (str, int, list, dict, set, bytes):
+            self.assertEqual(stored & set(dir(kind)), set())
+
+    def test_is_stands_with_none_and_truths_alone(self):
+        for path, node in self.nodes(ast.Compare):
+            for sign, right in zip(node.ops, node.comparators):
+                if isinstance(sign, (ast.Is, ast.IsNot)):
+                    self.assertIn(ast.unparse(right), ("None", "True", "False"), f"{path.name}:{node.lineno}")
+
+    def test_strings(self):
+        for path, node in self.nodes(ast.Constant):
+            if isinstance(node.value, str):
+                self.assertNotIn("%", node.value, f"{path.name}:{node.lineno}")
+            self.assertNotIsInstance(node.value, float, f"{path.name}:{node.lineno}")
+
 
 if __name__ == "__main__":
     unittest.main()

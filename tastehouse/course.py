@@ -1,7 +1,7 @@
 """The course of a run: which deed is due, deed by deed, however each of them goes ([61], [62])."""
 
 from tastehouse.pots import is_for_one, place_of, pots_of_turn
-from tastehouse.wants import is_cooked_of
+from tastehouse.wants import wants_of_recipe
 
 
 class Course:
@@ -62,6 +62,20 @@ class Course:
             self.came = ["left" if other == "ahead" else other for other in self.came]
         self.queue = pourings([pot for pot in self.standing if is_for_one(self.home, pot)])
 
+    def leave_others(self):
+        """Each turn behind the one that is come to is left."""
+        self.came = ["left" if word == "ahead" and place != self.at else word for place, word in enumerate(self.came)]
+
+    def state(self):
+        """All that deeds change, kept so that no later deed changes it."""
+        lists = (self.queue, self.standing, self.done, self.came, self.stood)
+        return (self.at, tuple(tuple(things) for things in lists))
+
+    def put_back(self, state):
+        """All is again as it was in a state that was kept."""
+        self.at, lists = state
+        self.queue, self.standing, self.done, self.came, self.stood = [list(things) for things in lists]
+
     def go_on(self):
         """Where all that was due is over, the next turn is come to; where there is none, all is poured out."""
         if "ahead" in self.came:
@@ -100,4 +114,5 @@ def is_unfit(house, pot, tasting, wanted):
 def is_cooked_of_any(house, pot, others):
     """Whether a pot is cooked of one of others that stand with it."""
     # Of each recipe one pot stands at most, and what a pot is cooked of stands as long: recipes tell enough.
-    return any(is_cooked_of(house, pot[0], other[0]) for other in others)
+    wanted = wants_of_recipe(house, pot[0])
+    return any(other[0] in wanted for other in others)

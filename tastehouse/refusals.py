@@ -3,7 +3,7 @@
 The texts never show what was handed in: it may be of whatever kind and size.
 """
 
-from tastehouse.errors import NoNumber, NoRecipe, NoSpot, NoTasting
+from tastehouse.errors import NoDeed, NoNumber, NoRecipe, NoSpot, NoTasting
 from tastehouse.houses import is_count, is_spot, is_whole
 
 
@@ -35,3 +35,9 @@ def refuse_no_count(thing):
     """Refuses what is no whole number from 0 on."""
     if not is_count(thing):
         raise NoNumber("this is no whole number from 0 on")
+
+
+def refuse_no_deed(past):
+    """Refuses to undo where the past, with an entry for each deed that is not undone yet, is empty."""
+    if not past:
+        raise NoDeed("nothing is left that could be undone")

@@ -97,6 +97,15 @@ def made_sound_house(chance):
     return tables, recipes, with_found_needs(house)
 
 
+def made_worded_house(chance, words=("a", "b", "hot", "sweet", "zzzzzzzz")):
+    """A sound house whose tastings have words, up to six of them."""
+    tables, recipes, tastings = made_sound_house(chance)
+    spots = [spot for spot in spots_of((tables, (), ())) if len(spot) == 2]
+    tastings += tuple((chance.choice(spots), (), ()) for number in range(chance.randint(0, 3)))
+    return tables, recipes, tuple((spot, needs, tuple(sorted(chance.sample(words, chance.randint(0, 4)))))
+                                  for spot, needs, other in tastings)
+
+
 def plain_lacks(house):
     told = {("recipe", number, house[1][number][4][at]) for number in range(len(house[1]))
             for at, found in enumerate(plain_straight(house, number)) if found is None}
@@ -160,51 +169,80 @@ def plain_pots(house, turn):
                  for number in wanted)
 
 
+class PlainService:
+    """A run told by the words of [61], [62] and [72] as loops that wait at each deed that is due for how it went."""
+
+    def __init__(self, house, order, often):
+        self.house, self.order, self.often = house, order, often
+        self.deeds, self.standing, self.made_of, self.at = [], [], {}, -1
+        self.came, self.stood = ["ahead"] * len(order), [None] * len(order)
+        self.steps = self.going()
+        self.due = next(self.steps, None)
+
+    def tell(self, thing):
+        """How the deed that is due went, or "stop"."""
+        if thing == "stop":
+            self.leave()
+        else:
+            try:
+                self.due = self.steps.send(thing)
+            except StopIteration:
+                self.due = None
+
+    def leave(self):
+        behind = self.at + 1
+        self.came[behind:] = ["left"] * len(self.came[behind:])
+
+    def going(self):
+        for place, turn in enumerate(self.order):
+            if self.came[place] == "left":
+                break
+            self.at = place
+            yield from self.clear_for(turn)
+            yield from self.have(turn)
+            if self.came.count("bad") + self.came.count("missed") >= self.often:
+                self.leave()
+            yield from self.pour([pot for pot in self.standing if self.house[1][pot[0]][2] == 0])
+        yield from self.pour(list(self.standing))
+
+    def pour(self, pots):
+        for pot in [pot for pot in reversed(self.standing) if pot in pots]:
+            well = yield ("pour", pot)
+            self.deeds.append(("pour" if well else "spill", pot))
+            self.standing.remove(pot)
+
+    def clear_for(self, turn):
+        wanted = plain_pots(self.house, turn)
+        going = {pot for pot in self.standing if pot[1] != plain_place(self.house, turn[0], self.house[1][pot[0]][2])}
+        going |= {pot for pot in self.standing for other in wanted if pot[0] == other[0] and pot != other}
+        while any(self.made_of[pot] & going and pot not in going for pot in self.standing):
+            going |= {pot for pot in self.standing if self.made_of[pot] & going}
+        yield from self.pour(going)
+
+    def have(self, turn):
+        for pot in plain_pots(self.house, turn):
+            if pot not in self.standing:
+                well = yield ("cook", pot)
+                if not well:
+                    self.deeds += [("burn", pot), ("miss", turn)]
+                    self.came[self.at] = "missed"
+                    return
+                # Told by the pots that stand as it is cooked, not by recipes.
+                self.made_of[pot] = {other for other in self.standing if other[0] in plain_straight(self.house, pot[0])}
+                self.standing.append(pot)
+                self.deeds.append(("cook", pot))
+        self.stood[self.at] = tuple(self.standing)
+        well = yield ("taste", turn)
+        self.deeds.append(("taste" if well else "bad", turn))
+        self.came[self.at] = "good" if well else "bad"
+
+
 def plain_run(house, order, often, goes_well):
     """The list, what came of each turn, and what stood as each was tasted; goes_well is asked of each deed."""
-    deeds, standing, came, stood, made_of = [], [], [], [], {}
-
-    def pour(pots):
-        for pot in [pot for pot in reversed(standing) if pot in pots]:
-            deeds.append(("pour" if goes_well("pour") else "spill", pot))
-            standing.remove(pot)
-
-    def cook_all(wanted):
-        for pot in wanted:
-            if pot not in standing:
-                if not goes_well("cook"):
-                    deeds.append(("burn", pot))
-                    return False
-                # Told by the pots that stand as it is cooked, not by recipes.
-                made_of[pot] = {other for other in standing if other[0] in plain_straight(house, pot[0])}
-                standing.append(pot)
-                deeds.append(("cook", pot))
-        return True
-
-    def clear_for(turn, wanted):
-        going = {pot for pot in standing if pot[1] != plain_place(house, turn[0], house[1][pot[0]][2])}
-        going |= {pot for pot in standing for other in wanted if pot[0] == other[0] and pot != other}
-        while any(made_of[pot] & going and pot not in going for pot in standing):
-            going |= {pot for pot in standing if made_of[pot] & going}
-        pour(going)
-
-    for turn in order:
-        stood.append(None)
-        if came.count("bad") + came.count("missed") >= often:
-            came.append("left")
-            continue
-        wanted = plain_pots(house, turn)
-        clear_for(turn, wanted)
-        if cook_all(wanted):
-            stood[-1] = tuple(standing)
-            came.append("good" if goes_well("taste") else "bad")
-            deeds.append(("taste" if came[-1] == "good" else "bad", turn))
-        else:
-            came.append("missed")
-            deeds.append(("miss", turn))
-        pour([pot for pot in standing if house[1][pot[0]][2] == 0])
-    pour(list(standing))
-    return deeds, tuple(came), tuple(stood)
+    service = PlainService(house, order, often)
+    while service.due is not None:
+        service.tell(goes_well(service.due[0]))
+    return service.deeds, tuple(service.came), tuple(service.stood)
 
 
 def by_mishaps(mishaps):

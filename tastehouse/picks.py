@@ -4,6 +4,7 @@ from tastehouse.errors import NoPick, NoText
 from tastehouse.faults import refuse_not_sound
 from tastehouse.finding import spots_around
 from tastehouse.houses import is_name, is_spot, is_tuple_of, is_word
+from tastehouse.refusals import refuse_no_text
 from tastehouse.signs import number_read, spot_read, spot_text
 from tastehouse.wants import wants_of_tasting
 
@@ -37,8 +38,7 @@ def pick_text(house, pick):
 def pick_read(house, text):
     """The pick that a text writes."""
     refuse_not_sound(house)
-    if not isinstance(text, str):
-        raise NoText("this is no text")
+    refuse_no_text(text)
     pick = read_parts(parts_of(text))
     if not is_pick_of(house, pick):
         raise NoText("this text writes no pick of the house")

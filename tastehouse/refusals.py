@@ -3,8 +3,14 @@
 The texts never show what was handed in: it may be of whatever kind and size.
 """
 
-from tastehouse.errors import NoDeed, NoNumber, NoRecipe, NoSpot, NoTasting
-from tastehouse.houses import is_count, is_spot, is_whole
+from tastehouse.errors import NoDeed, NoHouse, NoNumber, NoRecipe, NoSpot, NoTasting, NoText
+from tastehouse.houses import is_count, is_house, is_spot, is_whole
+
+
+def refuse_no_house(thing):
+    """Refuses what is no house."""
+    if not is_house(thing):
+        raise NoHouse("what would come of this is no house")
 
 
 def refuse_no_spot(house, thing):
@@ -35,6 +41,12 @@ def refuse_no_count(thing):
     """Refuses what is no whole number from 0 on."""
     if not is_count(thing):
         raise NoNumber("this is no whole number from 0 on")
+
+
+def refuse_no_text(thing):
+    """Refuses what is no text at all, to be read or not."""
+    if not isinstance(thing, str):
+        raise NoText("this is no text")
 
 
 def refuse_no_deed(past):

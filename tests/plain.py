@@ -106,6 +106,18 @@ def made_worded_house(chance, words=("a", "b", "hot", "sweet", "zzzzzzzz")):
                                   for spot, needs, other in tastings)
 
 
+def made_busy_house(chance):
+    """A sound house of few recipes that are wanted for many tastings, at several tables: much hangs on the order."""
+    keeps = sorted((chance.randint(0, 3) for number in range(4)), reverse=True)
+
+    def some(names, least):
+        return tuple(chance.sample(names, chance.randint(least, min(len(names), 2))))
+    recipes = tuple((number, (), keeps[number], chance.randint(1, 2), some(range(number), 0)) for number in range(4))
+    tastings = tuple(((chance.randint(0, 1), chance.randint(0, 1)), some(range(4), 1), ())
+                     for number in range(chance.randint(4, 6)))
+    return (2, 2), recipes, tastings
+
+
 def plain_lacks(house):
     told = {("recipe", number, house[1][number][4][at]) for number in range(len(house[1]))
             for at, found in enumerate(plain_straight(house, number)) if found is None}
@@ -175,7 +187,7 @@ class PlainService:
     def __init__(self, house, order, often):
         self.house, self.order, self.often = house, order, often
         self.deeds, self.standing, self.made_of, self.at = [], [], {}, -1
-        self.came, self.stood = ["ahead"] * len(order), [None] * len(order)
+        self.came, self.stood, self.behind = ["ahead"] * len(order), [None] * len(order), []
         self.steps = self.going()
         self.due = next(self.steps, None)
 
@@ -203,6 +215,7 @@ class PlainService:
             if self.came.count("bad") + self.came.count("missed") >= self.often:
                 self.leave()
             yield from self.pour([pot for pot in self.standing if self.house[1][pot[0]][2] == 0])
+            self.behind.append(tuple(self.standing))
         yield from self.pour(list(self.standing))
 
     def pour(self, pots):
@@ -239,10 +252,16 @@ class PlainService:
 
 def plain_run(house, order, often, goes_well):
     """The list, what came of each turn, and what stood as each was tasted; goes_well is asked of each deed."""
+    service = plain_course(house, order, often, goes_well)
+    return service.deeds, tuple(service.came), tuple(service.stood)
+
+
+def plain_course(house, order, often, goes_well):
+    """A run gone to its end."""
     service = PlainService(house, order, often)
     while service.due is not None:
         service.tell(goes_well(service.due[0]))
-    return service.deeds, tuple(service.came), tuple(service.stood)
+    return service
 
 
 def by_mishaps(mishaps):

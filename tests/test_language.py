@@ -16,6 +16,11 @@ BARRED_WORDS = re.compile(
     r"\b(type|typing|typing_extensions|enum|Enum|IntEnum|StrEnum|Flag|IntFlag|Generic|Protocol|ABC|ABCMeta|namedtuple|"
     r"NamedTuple|TypedDict|TYPE_CHECKING|abstractmethod)\b|dataclass|overload|contextmanager"
 )
+LET_METHODS = set(
+    "append clear copy count endswith extend find get index insert isalnum isalpha isdigit islower isspace isupper items "
+    "join keys ljust lower lstrip partition pop remove replace reverse rfind rjust rpartition rsplit rstrip setdefault "
+    "split splitlines startswith strip update upper values zfill bit_length".split()
+)
 LEVEL = (ast.FunctionDef, ast.ClassDef, ast.ImportFrom, ast.Assign, ast.Expr)
 
 
@@ -99,6 +104,27 @@ class LanguageTest(unittest.TestCase):
         self.assertEqual(methods & stored, set())
         for kind in (str, int, list, dict, set, bytes):
             self.assertEqual(stored & set(dir(kind)), set())
+
+    def test_methods_called(self):
+        own = {row.name for path, node in self.nodes(ast.ClassDef) for row in node.body if isinstance(row, ast.FunctionDef)}
+        for path, node in self.nodes(ast.Call):
+            if isinstance(node.func, ast.Attribute):
+                self.assertIn(node.func.attr, LET_METHODS | own, f"{path.name}:{node.lineno}")
+
+    def test_module_level_values(self):
+        for path, tree in self.trees.items():
+            functions, bound = set(), set()
+            for row in tree.body:
+                names = [row.name] if isinstance(row, (ast.FunctionDef, ast.ClassDef)) else []
+                names += [name.name for name in row.names] if isinstance(row, ast.ImportFrom) else []
+                if isinstance(row, ast.Assign):
+                    names += [target.id for target in row.targets]
+                    for node in ast.walk(row.value):
+                        self.assertIsInstance(node, (ast.Constant, ast.Tuple, ast.List, ast.Dict, ast.Name, ast.Load))
+                        self.assertIn(getattr(node, "id", None), functions | {None}, f"{path.name}:{row.lineno}")
+                functions |= set(names) if isinstance(row, ast.FunctionDef) else set()
+                self.assertEqual(bound & set(names), set(), f"{path.name}:{row.lineno}")
+                bound |= set(names)
 
     def test_is_stands_with_none_and_truths_alone(self):
         for path, node in self.nodes(ast.Compare):

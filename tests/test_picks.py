@@ -17,21 +17,27 @@ A, B, C = ("word", "a"), ("word", "b"), ("word", "c")
 # One place otherwise in a pick of each kind.
 NO_PICKS = (
     (), ("word",), ("word", "hot", "sweet"), ("Word", "hot"), ("", "hot"), (None, "hot"), (0, "hot"), (["word"], "hot"),
-    ({}, "hot"), (("word",), "hot"), "word", "hot", ["word", "hot"], {"word": "hot"}, ("word", ""), ("word", "abcdefghi"),
+    ({}, "hot"), (("word",), "hot"), "word", "hot", ["word", "hot"], {"word": "hot"}, ("word", ""),
+    ("word", "abcdefghi"),
     ("word", "Hot"), ("word", "h t"), ("word", "hot "), ("word", "h0t"), ("word", "hot\n"), ("word", None), ("word", 0),
     ("word", ("hot",)), ("word", ["h"]), ("word", HOT), ("hot", "word"), (HOT,), (HOT, HOT), ("word", "@"),
     ("at", None), ("at", 0), ("at", [0]), ("at", []), ("at", [0, 1]), ("at", (2,)), ("at", (0, 2)), ("at", (1, 1)),
-    ("at", (0, 0, 0)), ("at", (-1,)), ("at", (0, -1)), ("at", (True,)), ("at", (0, True)), ("at", (False,)), ("at", "@"),
-    ("at", {}), ("at", (None,)), ("at",), ("at", 0, 1), ("at", (0,), (1,)), ("at", ("0",)), ("at", ((),)), ("at", "hot"),
+    ("at", (0, 0, 0)), ("at", (-1,)), ("at", (0, -1)), ("at", (True,)), ("at", (0, True)), ("at", (False,)),
+    ("at", "@"),
+    ("at", {}), ("at", (None,)), ("at",), ("at", 0, 1), ("at", (0,), (1,)), ("at", ("0",)), ("at", ((),)),
+    ("at", "hot"),
     ("wants", 8), ("wants", -1), ("wants", True), ("wants", False), ("wants", None), ("wants", "3"), ("wants", (3,)),
     ("wants", 10 ** 39), ("wants",), ("wants", 1, 2), ("wants", [3]), ("want", 3), ("wants", "hot"),
     ("not",), ("not", HOT, HOT), ("not", "hot"), ("not", None), ("not", ()), ("not", [HOT]), ("not", ["word", "hot"]),
-    ["not", HOT], ("not", ("wants", 8)), ("not", ("not", ("word", ""))), ("not", True), ("no", HOT), ("!", HOT), ("not", (HOT,)),
+    ["not", HOT], ("not", ("wants", 8)), ("not", ("not", ("word", ""))), ("not", True), ("no", HOT), ("!", HOT),
+    ("not", (HOT,)),
     ("and",), ("and", HOT), ("and", HOT, HOT, HOT), ("and", HOT, "hot"), ("and", "hot", HOT), ("and", HOT, None),
     ["and", HOT, HOT], ("and", [HOT], HOT), ("and", (HOT, HOT)), ("&", HOT, HOT), ("and", HOT, ["word", "hot"]),
     ("and", ("at", (9,)), HOT), ("and", HOT, ("at", (9,))), ("or",), ("or", HOT), ("or", HOT, HOT, HOT), ("or", HOT, 0),
-    ("or", (), HOT), ["or", HOT, HOT], ("or", HOT, ("wants", True)), ("or", ("not", ("word", "A")), HOT), ("xor", HOT, HOT),
-    ("AND", HOT, HOT), ("or", {}, HOT), (("or",), HOT, HOT), (["or"], HOT, HOT), ("or", HOT, HOT, ()), ("and", "or", "not"),
+    ("or", (), HOT), ["or", HOT, HOT], ("or", HOT, ("wants", True)), ("or", ("not", ("word", "A")), HOT),
+    ("xor", HOT, HOT),
+    ("AND", HOT, HOT), ("or", {}, HOT), (("or",), HOT, HOT), (["or"], HOT, HOT), ("or", HOT, HOT, ()),
+    ("and", "or", "not"),
 )
 
 
@@ -68,7 +74,8 @@ class IsPickTest(unittest.TestCase):
     def test_each_kind(self):
         for pick in (HOT, ("word", "a"), ("word", "abcdefgh"), ("word", "word"), ("at", ()), ("at", (0,)), ("at", (1,)),
                      ("at", (0, 1)), ("at", (1, 0)), ("wants", 0), ("wants", 7), ("wants", 4), ("not", HOT),
-                     ("and", HOT, ("at", ())), ("or", ("wants", 3), ("not", ("not", HOT))), ("and", ("or", HOT, HOT), HOT)):
+                     ("and", HOT, ("at", ())), ("or", ("wants", 3), ("not", ("not", HOT))),
+                     ("and", ("or", HOT, HOT), HOT)):
             with self.subTest(pick):
                 self.assertIs(is_pick(SOUND, pick), True)
 
@@ -171,7 +178,8 @@ class WrittenTest(unittest.TestCase):
         (("or", ("and", A, B), C), "a & b | c"), (("or", A, ("and", B, C)), "a | b & c"),
         (("and", ("or", A, B), C), "(a | b) & c"), (("and", A, ("or", B, C)), "a & (b | c)"),
         (("and", ("not", A), ("not", B)), "!a & !b"), (("not", ("and", ("not", A), B)), "!(!a & b)"),
-        (("or", ("and", A, B), ("and", B, C)), "a & b | b & c"), (("and", ("or", A, B), ("or", B, C)), "(a | b) & (b | c)"),
+        (("or", ("and", A, B), ("and", B, C)), "a & b | b & c"),
+        (("and", ("or", A, B), ("or", B, C)), "(a | b) & (b | c)"),
         (("not", ("not", ("or", A, B))), "!!(a | b)"),
         (("or", ("and", HOT, ("not", ("or", SWEET, ("at", (0, 1))))), ("wants", 3)), "hot & !(sweet | @0.1) | #3"),
     )
@@ -196,7 +204,8 @@ class WrittenTest(unittest.TestCase):
                 self.assertNotEqual(plain_read(house, less), pick, (text, less))
 
     def test_twelve_levels(self):
-        for pick in (chain("not", 12), chain("and", 12), chain("or", 12), full(("and", "or"), 12, itertools.cycle("ab"))):
+        for pick in (chain("not", 12), chain("and", 12), chain("or", 12),
+                     full(("and", "or"), 12, itertools.cycle("ab"))):
             text = pick_text(SOUND, pick)
             self.assertEqual(deep(pick), 12)
             # Told, so it may be handed in again, be it longer than two thousand signs.
@@ -220,20 +229,33 @@ class ReadTest(unittest.TestCase):
             ("!a&b", ("and", ("not", A), B)), ("a|b&c", ("or", A, ("and", B, C))), ("a&b|c", ("or", ("and", A, B), C)),
             ("a|b|c&a", ("or", ("or", A, B), ("and", C, A))), ("@|@0", ("or", ("at", ()), ("at", (0,)))),
             ("@0.1&#3", ("and", ("at", (0, 1)), ("wants", 3))), ("(@)", ("at", ())), (" #7 ", ("wants", 7)),
-            ("a|(b|c)", ("or", A, ("or", B, C))), ("a & ( b & c )", ("and", A, ("and", B, C))), ("(a|b)|c", ("or", ("or", A, B), C)),
+            ("a|(b|c)", ("or", A, ("or", B, C))), ("a & ( b & c )", ("and", A, ("and", B, C))),
+            ("(a|b)|c", ("or", ("or", A, B), C)),
         ):
             with self.subTest(text):
                 self.assertEqual(pick_read(SOUND, text), pick)
 
+    def test_each_sign_of_a_word(self):
+        for word in ("abcdefgh", "ijklmnop", "qrstuvwx", "yz", *"abcdefghijklmnopqrstuvwxyz"):
+            self.assertEqual(pick_read(SOUND, word), ("word", word))
+            self.assertEqual(pick_read(SOUND, f"!{word}|@"), ("or", ("not", ("word", word)), ("at", ())))
+
     def test_what_writes_none(self):
         self.no_text(
-            SOUND, "", " ", "     ", "a b", "a  b", "hot sweet", "&", "|", "!", "(", ")", "()", "( )", "a&", "&a", "a|", "|a",
-            "a&&b", "a||b", "a&|b", "a!", "a!b", "a!&b", "a & ! & b", "(a", "a)", "((a)", "(a))", ")a(", "a(b)", "(a)b", "(a)(b)", "a()",
-            "()a", "!()", "a&()", "@ 0", "@0 .1", "@0. 1", "@0.", "@.", "@.1", "@0.1.", "@0.1.0", "@00", "@01", "@0.01", "@0.00",
-            "@-1", "@0-1", "@+0", "@2", "@3", "@0.2", "@1.1", "@10", "@a", "@0a", "a@0", "@@", "@0@1", "@0,1", "#", "# 3", "#8",
-            "#9", "#10", "#00", "#03", "#-1", "#+1", "#a", "#3a", "a#3", "##3", "#3#3", "#3.0", "3", "0", "a3", "3a", "A", "Hot", "hoT",
-            "abcdefghi", "a_b", "a-b", "a.b", "a,b", "'a'", "\"a\"", "a\n", "\na", "a\n&b", "a\t&\tb", "\ta", "a\r", "a &\nb", "a\x0b", "[a]", "{a}",
-            "a and b", "not a", "~a", "a^b", "a+b", "a=b", "(a]", "a;", "\x00", "@\n", "#3\n", "#" + "9" * 40, "@" + "0" * 100, "@" + "1" * 1999,
+            SOUND, "", " ", "     ", "a b", "a  b", "hot sweet", "&", "|", "!", "(", ")", "()", "( )", "a&", "&a",
+            "a|", "|a",
+            "a&&b", "a||b", "a&|b", "a!", "a!b", "a!&b", "a & ! & b", "(a", "a)", "((a)", "(a))", ")a(", "a(b)",
+            "(a)b", "(a)(b)", "a()",
+            "()a", "!()", "a&()", "@ 0", "@0 .1", "@0. 1", "@0.", "@.", "@.1", "@0.1.", "@0.1.0", "@00", "@01",
+            "@0.01", "@0.00",
+            "@-1", "@0-1", "@+0", "@2", "@3", "@0.2", "@1.1", "@10", "@a", "@0a", "a@0", "@@", "@0@1", "@0,1", "#",
+            "# 3", "#8",
+            "#9", "#10", "#00", "#03", "#-1", "#+1", "#a", "#3a", "a#3", "##3", "#3#3", "#3.0", "3", "0", "a3", "3a",
+            "A", "Hot", "hoT",
+            "abcdefghi", "a_b", "a-b", "a.b", "a,b", "'a'", "\"a\"", "a\n", "\na", "a\n&b", "a\t&\tb", "\ta", "a\r",
+            "a &\nb", "a\x0b", "[a]", "{a}",
+            "a and b", "not a", "~a", "a^b", "a+b", "a=b", "(a]", "a;", "\x00", "@\n", "#3\n", "#" + "9" * 40,
+            "@" + "0" * 100, "@" + "1" * 1999,
             "a" * 2000, "#" + "3" * 1999, "(" * 30, ")" * 30, "!" * 30, "()" * 15, "(" * 30 + ")" * 30,
         )
 
@@ -256,7 +278,8 @@ class ReadTest(unittest.TestCase):
         self.no_text(SOUND, "(" * 30 + "hot" + ")" * 29, "(" * 29 + "hot" + ")" * 30, " " * 2000)
 
     def test_other_kinds(self):
-        self.no_text(SOUND, *[thing for thing in STRANGE if thing != "house"], b"hot", ["hot"], ("hot",), {"hot": 1}, HOT, 3)
+        self.no_text(SOUND, *[thing for thing in STRANGE if thing != "house"], b"hot", ["hot"], ("hot",), {"hot": 1},
+                     HOT, 3)
         self.assertEqual(pick_read(SOUND, "house"), ("word", "house"))
 
     def test_spots_and_names_that_the_house_has_not(self):
@@ -341,12 +364,17 @@ class PartingTest(unittest.TestCase):
     def test_by_hand(self):
         for one, other, right in (
             (A, A, None), (A, B, ("a",)), (B, A, ("a",)), (A, ("not", A), ()), (A, ("not", ("not", A)), None),
-            (("and", A, B), A, ("a",)), (("and", A, B), B, ("b",)), (("or", A, B), A, ("b",)), (("and", A, B), ("or", A, B), ("a",)),
-            (("and", A, B), ("and", B, A), None), (("and", A, ("or", B, C)), ("or", ("and", A, B), ("and", A, C)), None),
-            (("not", ("and", A, B)), ("or", ("not", A), ("not", B)), None), (("or", A, ("not", A)), ("or", B, ("not", B)), None),
-            (("and", ("and", A, B), C), ("and", A, B), ("a", "b")), (("and", C, ("and", A, B)), ("and", C, B), ("b", "c")),
-            (("and", A, C), ("and", A, B), ("a", "b")), (("and", ("and", A, B), C), ("and", A, ("not", A)), ("a", "b", "c")),
-            (("word", "b"), ("word", "ab"), ("ab",)), (HOT, ("and", HOT, SWEET), ("hot",)), (("or", HOT, ("not", SWEET)), ("not", SWEET), ("hot", "sweet")),
+            (("and", A, B), A, ("a",)), (("and", A, B), B, ("b",)), (("or", A, B), A, ("b",)),
+            (("and", A, B), ("or", A, B), ("a",)),
+            (("and", A, B), ("and", B, A), None),
+            (("and", A, ("or", B, C)), ("or", ("and", A, B), ("and", A, C)), None),
+            (("not", ("and", A, B)), ("or", ("not", A), ("not", B)), None),
+            (("or", A, ("not", A)), ("or", B, ("not", B)), None),
+            (("and", ("and", A, B), C), ("and", A, B), ("a", "b")),
+            (("and", C, ("and", A, B)), ("and", C, B), ("b", "c")), (("and", A, C), ("and", A, B), ("a", "b")),
+            (("and", ("and", A, B), C), ("and", A, ("not", A)), ("a", "b", "c")),
+            (("word", "b"), ("word", "ab"), ("ab",)), (HOT, ("and", HOT, SWEET), ("hot",)),
+            (("or", HOT, ("not", SWEET)), ("not", SWEET), ("hot", "sweet")),
         ):
             with self.subTest(one=one, other=other):
                 self.assertEqual(parting(one, other), right)
@@ -365,7 +393,8 @@ class PartingTest(unittest.TestCase):
         self.assertEqual(parting(joined("or", EIGHT[:4]), joined("or", EIGHT[4:])), ("a",))
         self.assertEqual(parting(joined("or", EIGHT[1:]), nine), ("b",))
         for one, other in ((joined("or", EIGHT), nine), (nine, joined("or", EIGHT)), (joined("and", [*EIGHT, nine]), A),
-                           (A, joined("and", [*EIGHT, nine])), (joined("or", EIGHT[:5]), joined("or", [*EIGHT[5:], nine]))):
+                           (A, joined("and", [*EIGHT, nine])),
+                           (joined("or", EIGHT[:5]), joined("or", [*EIGHT[5:], nine]))):
             self.assertRaises(NoPick, parting, one, other)
 
     def test_levels(self):
@@ -373,11 +402,13 @@ class PartingTest(unittest.TestCase):
             self.assertEqual(parting(chain(kind, 12), chain(kind, 12)), None)
             self.assertRaises(NoPick, parting, chain(kind, 13), HOT)
             self.assertRaises(NoPick, parting, HOT, chain(kind, 13))
-        one, other = full(("and", "or"), 12, itertools.cycle("abcdefgh")), full(("or", "and"), 12, itertools.cycle("hgfa"))
+        one = full(("and", "or"), 12, itertools.cycle("abcdefgh"))
+        other = full(("or", "and"), 12, itertools.cycle("hgfa"))
         self.assertEqual(parting(one, other), plain_parting(one, other))
 
     def test_spots_names_and_what_is_no_pick(self):
-        for thing in (("at", ()), ("at", (0, 0)), ("wants", 0), ("not", ("at", ())), ("and", HOT, ("wants", 3)), ("or", ("at", (0,)), HOT),
+        for thing in (("at", ()), ("at", (0, 0)), ("wants", 0), ("not", ("at", ())), ("and", HOT, ("wants", 3)),
+                      ("or", ("at", (0,)), HOT),
                       *NO_PICKS, *STRANGE):
             with self.subTest(thing=repr(thing)[:300]):
                 self.assertRaises(NoPick, parting, thing, HOT)
